@@ -1,0 +1,1 @@
+"""Fewhands: procedures decided for all staffs."""
