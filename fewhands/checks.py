@@ -3,15 +3,24 @@
 # The greatest number of persons of a kind.
 HUGE = 10 ** 30
 
-_LETTERS = "abcdefghijklmnopqrstuvwxyz"
-_LONGEST = 8
+LETTERS = "abcdefghijklmnopqrstuvwxyz"
+
+# The most letters of a word.
+LONGEST = 8
 
 
 def is_word(value):
     """Whether it is a string of 1 to 8 letters from a to z."""
-    if not isinstance(value, str) or not 1 <= len(value) <= _LONGEST:
+    if not isinstance(value, str) or not 1 <= len(value) <= LONGEST:
         return False
-    return all([letter in _LETTERS for letter in value])
+    return all([letter in LETTERS for letter in value])
+
+
+def are_words(value):
+    """Whether it is a list or a tuple of different words."""
+    if not isinstance(value, (list, tuple)) or not all([is_word(word) for word in value]):
+        return False
+    return len(set(value)) == len(value)
 
 
 def is_whole(value, low, high):

@@ -25,6 +25,19 @@ SPECIAL = set("""
     lshift rshift radd rsub rmul rfloordiv rmod rand ror rxor rlshift rrshift iadd isub imul ifloordiv
     imod ipow iand ior ixor ilshift irshift neg pos invert abs bool contains getitem setitem
 """.split())
+# The methods of builtin values that may be called (L25).
+METHODS = set("""
+    append clear copy count endswith extend find get index insert isalnum isalpha isdigit islower isspace isupper
+    items join keys ljust lower lstrip partition pop remove replace reverse rfind rjust rpartition rsplit rstrip
+    setdefault split splitlines startswith strip update upper values zfill bit_length
+""".split())
+# Names that are used nowhere (L17), or not as names of variables, functions, classes and the like.
+NOWHERE = set("register mro elements open input law version_info with_traceback add_note format format_map".split())
+NO_VARIABLES = NOWHERE | set("""
+    attrgetter breakpoint builtins compile copyright credits delattr dir eval exec exit gc getattr globals hasattr
+    help id importlib license locals methodcaller os quit setattr type vars sys
+""".split())
+CHANGING = set("append clear extend insert pop remove reverse setdefault update".split())
 
 
 def files():
@@ -101,6 +114,84 @@ class TestLanguage(unittest.TestCase):
     def test_names_are_bound_once_at_the_top(self):
         for path in files():
             bound_at_top(path)
+
+    def test_no_generator_expressions(self):
+        """A class has its own equality: any, all and the like take lists (L7)."""
+        self.assertEqual([place for place, _ in nodes(ast.GeneratorExp)], [])
+
+    def test_methods(self):
+        own = {node.name for _, node in nodes(ast.FunctionDef)}
+        for place, node in nodes(ast.Call):
+            if isinstance(node.func, ast.Attribute):
+                self.assertIn(node.func.attr, METHODS | own, place)
+
+    def test_barred_names(self):
+        for place, node in nodes(ast.Attribute):
+            self.assertNotIn(node.attr, NOWHERE, place)
+        for place, node in nodes(ast.Name, ast.arg, ast.FunctionDef, ast.ClassDef):
+            name = node.id if isinstance(node, ast.Name) else node.arg if isinstance(node, ast.arg) else node.name
+            self.assertNotIn(name, NO_VARIABLES, place)
+
+    def test_local_names(self):
+        """No parameter and no local variable has the name of a class, an import or a builtin (L15)."""
+        for path in files():
+            tree = ast.parse(path.read_text())
+            taken = {node.name for node in tree.body if isinstance(node, ast.ClassDef)}
+            for node in tree.body:
+                if isinstance(node, ast.ImportFrom):
+                    taken |= {row.name for row in node.names}
+            for function in ast.walk(tree):
+                if isinstance(function, ast.FunctionDef):
+                    found = {node.arg for node in ast.walk(function) if isinstance(node, ast.arg)}
+                    found |= {node.id for node in ast.walk(function) if isinstance(node, ast.Name)
+                              and isinstance(node.ctx, ast.Store)}
+                    self.assertFalse(found & (taken | ALL_BUILTINS), f"{path.name}:{function.name}")
+
+    def test_sets(self):
+        """A set stands in sorted or len, or beside another one (L24)."""
+        for path in files():
+            tree = ast.parse(path.read_text())
+            right = set()
+            for node in ast.walk(tree):
+                if isinstance(node, ast.Call) and isinstance(node.func, ast.Name) and node.func.id in ("sorted", "len"):
+                    right |= {id(argument) for argument in node.args}
+            for node in ast.walk(tree):
+                is_call = isinstance(node, ast.Call) and isinstance(node.func, ast.Name)
+                if isinstance(node, (ast.Set, ast.SetComp)) or is_call and node.func.id in ("set", "frozenset"):
+                    self.assertIn(id(node), right, f"{path.name}:{node.lineno}")
+
+    def test_handlers_name_own_errors(self):
+        own = {node.name for _, node in nodes(ast.ClassDef)}
+        for place, node in nodes(ast.ExceptHandler):
+            named = node.type.elts if isinstance(node.type, ast.Tuple) else [node.type]
+            self.assertLessEqual({name.id for name in named}, own | {"KeyError"}, place)
+
+    def test_loops_do_not_change_what_they_go_over(self):
+        for place, loop in nodes(ast.For):
+            over = {node.id for node in ast.walk(loop.iter) if isinstance(node, ast.Name)} - {"self"}
+            for node in [node for row in loop.body for node in ast.walk(row)]:
+                if isinstance(node, ast.Call) and isinstance(node.func, ast.Attribute) and node.func.attr in CHANGING:
+                    self.assertNotIn(getattr(node.func.value, "id", None), over, place)
+                if isinstance(node, ast.Subscript) and not isinstance(node.ctx, ast.Load):
+                    self.assertNotIn(getattr(node.value, "id", None), over, place)
+
+    def test_keywords_of_builtins(self):
+        allowed = {"sorted": {"key", "reverse"}, "min": {"key", "default"}, "max": {"key", "default"},
+                   "sum": {"start"}, "enumerate": {"start"}, "zip": {"strict"}}
+        for place, node in nodes(ast.Call):
+            if isinstance(node.func, ast.Name) and node.func.id in BUILTINS:
+                self.assertLessEqual({word.arg for word in node.keywords}, allowed.get(node.func.id, set()), place)
+
+    def test_methods_of_the_interface_stand_in_their_classes(self):
+        classes = {node.name: {row.name for row in node.body if isinstance(row, ast.FunctionDef)}
+                   for _, node in nodes(ast.ClassDef)}
+        for name, methods in (
+            ("Staff", "of kinds total numbers fits_in within __getitem__ __eq__ __add__ __sub__ __or__ __and__"),
+            ("Task", "role many other same takes forgets __eq__"),
+            ("Book", "kinds remembered width plan set_plan names __len__ __contains__ __getitem__ __setitem__ take copied "
+                     "__eq__ __add__ __or__ __ior__ text read"),
+        ):
+            self.assertLessEqual(set(methods.split()) | {"__init__"}, classes[name])
 
 
 def bound_at_top(path):

@@ -1,7 +1,9 @@
 """Values of many kinds, for the tests of what takes any value."""
 
+from fewhands.books import Book
 from fewhands.errors import InvalidName
 from fewhands.staffs import Staff
+from fewhands.tasks import HandOn, Task
 
 
 def many_kinds():
@@ -10,7 +12,8 @@ def many_kinds():
         None, True, False, 0, 1, -1, 7, 10 ** 99, -(10 ** 99),
         "", "p", "P", "self", "ninechars", "two words", "%s", "\u00e9", "\ud800", b"", b"p\x00",
         (), ("p",), (("p", 1), [2]), [], ["p"], [[1], {"p": None}], {}, {"p": 1}, {1: "p", "p": [()]},
-        Staff(), Staff(p=1), InvalidName("p"), nested(20),
+        Staff(), Staff(p=1), InvalidName("p"), Task(), HandOn("p"), Book({"p": []}, {"p": Task()}, "p"),
+        nested(20), nested_tuples(20),
     ]
 
 
@@ -19,4 +22,12 @@ def nested(depth):
     value = []
     for _ in range(depth - 1):
         value = [value]
+    return value
+
+
+def nested_tuples(depth):
+    """A tuple in a tuple and so on, with as many tuples as depth says."""
+    value = ()
+    for _ in range(depth - 1):
+        value = (value,)
     return value
