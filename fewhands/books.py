@@ -7,6 +7,7 @@ from fewhands.errors import Clash, InUse, InvalidTasks, NotSameKinds, UnknownTas
 from fewhands.forms import names_inside
 from fewhands.memory import check_memory, remembered_names, width_of
 from fewhands.steps import Steps
+from fewhands.surveys import Survey
 from fewhands.tasks import Task
 
 
@@ -19,6 +20,7 @@ class Book:
         self._plan = checked_plan(plan, self._tasks)
         check_memory(self._tasks)
         self._steps = None
+        self._survey = None
 
     @property
     def kinds(self):
@@ -52,14 +54,19 @@ class Book:
     def set_plan(self, plan):
         """Gives the book another plan."""
         self._plan = checked_plan(plan, self._tasks)
-        self._steps = None
+        self._forget()
 
     def _set_tasks(self, tasks):
         """Gives the book these tasks, among which are all tasks of its plan."""
         known = checked_tasks(tasks)
         check_memory(known)
         self._tasks = known
+        self._forget()
+
+    def _forget(self):
+        """Forgets what was found out about the book as it was."""
         self._steps = None
+        self._survey = None
 
     def __len__(self):
         return len(self._tasks)
@@ -136,3 +143,9 @@ class Book:
         if self._steps is None:
             self._steps = Steps(self._kinds, self._tasks, self._plan)
         return self._steps
+
+    def survey(self):
+        """What is found out about all stands that runs reach; kept like the steps."""
+        if self._survey is None:
+            self._survey = Survey(self.steps(), self._kinds, (self._plan, ()))
+        return self._survey

@@ -28,3 +28,20 @@ def is_whole(value, low, high):
     if not isinstance(value, int) or isinstance(value, bool):
         return False
     return low <= value <= high
+
+
+def is_natural(value):
+    """Whether it is an integer, which a bool is not, from 0 on."""
+    return isinstance(value, int) and not isinstance(value, bool) and value >= 0
+
+
+def is_dict_of(keys, value):
+    """Whether it is a dict with exactly these keys, which are different strings."""
+    return isinstance(value, dict) and len(value) == len(keys) and all([key in value for key in keys])
+
+
+def is_key(value, depth):
+    """Whether it is a string, or a tuple of such values nested at most so deep: it can be looked up anywhere."""
+    if isinstance(value, tuple):
+        return depth > 0 and all([is_key(item, depth - 1) for item in value])
+    return isinstance(value, str)

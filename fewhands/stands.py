@@ -1,10 +1,8 @@
 """Stands: where a run can be, and the moves from there."""
 
-from fewhands.checks import HUGE, is_whole
-from fewhands.errors import TooMany, UnknownMove, UnknownStand
-from fewhands.limits import STANDS
+from fewhands.errors import UnknownMove, UnknownStand
 from fewhands.staffs import Staff
-from fewhands.steps import needed
+from fewhands.steps import is_move_like, needed
 
 
 def _following(book, stand):
@@ -18,8 +16,7 @@ def _following(book, stand):
 def _behind(book, stand, move):
     """The stand behind a move, where both may be any value."""
     rows = _following(book, stand)
-    # True and False are equal to the integers that they are not.
-    if isinstance(move, tuple) and all([isinstance(item, (str, tuple)) or is_whole(item, 0, HUGE) for item in move]):
+    if is_move_like(move):
         for known, behind in rows:
             if known == move:
                 return behind
@@ -49,18 +46,4 @@ def needs(book, stand, move):
 
 def stands(book):
     """The list of all stands that runs of staffs reach, in the order in which they are met."""
-    steps = book.steps()
-    first = first_stand(book)
-    found = [first]
-    known = {first: True}
-    at = 0
-    while at < len(found):
-        stand = found[at]
-        for _, behind in steps.following(stand):
-            if behind not in known:
-                if len(found) == STANDS:
-                    raise TooMany(STANDS)
-                known[behind] = True
-                found.append(behind)
-        at += 1
-    return found
+    return list(book.survey().graph.stands)

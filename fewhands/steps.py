@@ -1,6 +1,6 @@
 """The steps of a book: which moves there are at a stand, and what follows them."""
 
-from fewhands.checks import are_words
+from fewhands.checks import HUGE, are_words, is_whole
 from fewhands.errors import InvalidPlan
 from fewhands.forms import check_plan, levels
 from fewhands.limits import LEVELS, STANDS, WIDTH
@@ -22,6 +22,13 @@ def _groups_of(members, many):
 def _without(names, gone):
     """The names that are not gone."""
     return [name for name in names if name not in gone]
+
+
+def is_move_like(value):
+    """Whether any value can be compared with moves: True and False are equal to integers that they are not."""
+    if not isinstance(value, tuple):
+        return False
+    return all([isinstance(item, (str, tuple)) or is_whole(item, 0, HUGE) for item in value])
 
 
 def needed(stand, move):
