@@ -50,8 +50,6 @@ class Leaving:
     def _bound(self, winners, at):
         """The staffs that are winners at the stand that is left, whichever person is taken away at a stand."""
         crowds = self._crowds
-        if self._graph.turns[at] == "done":
-            return crowds.everybody
         counted = self._graph.counted(self._graph.stands[at])
         crowd = crowds.everybody
         # Where nobody is free, nobody who is free can be taken away.

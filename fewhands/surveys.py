@@ -46,6 +46,10 @@ class Survey:
             self._leaving = Leaving(self._steps, self._kinds, self.graph.stands[0])
         return self._leaving
 
+    def needs(self):
+        """The crowds of the staffs that always complete, and of those that can complete."""
+        return (self.winners()[0], self.bands())
+
     def least_winners(self):
         """The numbers of the least staffs that always complete, ascending."""
         return self.crowds.least(self.winners()[0])

@@ -288,3 +288,19 @@ def ways_to_leave(stand, now):
     plan, blocks = stand
     found = [(kind, stand) for kind in now if now[kind] > [at for at, _ in blocks].count(kind)]
     return found + [(block[0], (plan, blocks[:at] + blocks[at + 1:])) for at, block in enumerate(blocks)]
+
+
+def is_cast_run(book, cast, moves):
+    """Whether moves of persons with numbers from 1 on are a complete run."""
+    state = first_state(book, cast)
+    for move in moves:
+        found = None
+        for known, behind in state_moves(book, cast, state):
+            if known[0] == "do":
+                known = ("do", known[1], tuple(person + 1 for person in known[2]))
+            if repr(known) == repr(move):
+                found = behind
+        if found is None:
+            return False
+        state = found
+    return reference.turn_of(state[0]) == "done"
