@@ -35,8 +35,7 @@ def picked(case, place, index):
 
 def place_to_do(case, task, place):
     """The number of the place where any value of task stands, and that any value of place means."""
-    rows = [row for row in ways_of(case.left) if row[0] == "do" and isinstance(task, str) and row[2] == task]
-    places = [row[1] for row in rows]
+    places = [row[1] for row in ways_of(case.left) if row[0] == "do" and row[2] == task]
     if place is None and places:
         return places[0]
     if not is_natural(place) or place not in places:

@@ -132,7 +132,7 @@ class Desk:
     def run(self, line):
         """The answer to any value that is a line, once it is done."""
         words = line.split(" ") if isinstance(line, str) else []
-        is_trial = len(words) > 1 and words[0] == "try"
+        is_trial = words[:1] == ["try"]
         command = words[1:] if is_trial else words
         if not _is_command(command):
             raise CommandError(line)

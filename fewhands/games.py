@@ -161,7 +161,7 @@ def run_to(found, at):
     while found[at] is not None:
         at, move = found[at]
         moves.append(move)
-    return tuple(reversed(moves))
+    return tuple(moves[::-1])
 
 
 def is_stuck(graph, can, at):

@@ -39,6 +39,7 @@ def _check_hands(book, hands, staff):
 
 def _guarding(book, prices, hands, staff):
     """What the choices of options with prices do, once all of these are found right."""
+    # First of all it is told if the book has too many stands, and behind the prices if all options are too much for it.
     book.survey()
     check_prices(book, prices)
     book_with(book, sorted(list(prices)))
@@ -53,6 +54,7 @@ def cheapest_guard(book, prices, hands, staff=None):
 
 def guards(book, choice, hands, staff=None):
     """Whether a choice guards a book."""
+    # As above, with the choice instead of all options.
     book.survey()
     book_with(book, choice)
     _check_hands(book, hands, staff)

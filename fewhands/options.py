@@ -49,7 +49,7 @@ def book_without(book, condition):
 
 def _is_option(book, value):
     """Whether any value is a condition that the book can have, but does not have."""
-    if not isinstance(value, tuple) or len(value) != 3 or not all([isinstance(item, str) for item in value]):
+    if not isinstance(value, tuple) or len(value) != 3:
         return False
     name, word, known = value
     if name not in book or word not in WORDS or not is_word(known):

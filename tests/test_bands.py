@@ -103,6 +103,11 @@ class TestBands(unittest.TestCase):
                          [{"p": 1, "q": 1}, {"o": 1, "q": 1}, {"o": 1, "p": 1}, {"o": 2}])
         self.assertEqual(self.least(tasks, ("either", ("then", "a", "b"), "b"), p=["r"], q=["s"], o=["r", "s"]), [{"q": 1}, {"o": 1}])
 
+    def test_the_fewest_persons(self):
+        book = Book({"o": ["r", "s"], "p": ["r"], "q": ["s"]}, {"a": Task("r"), "b": Task("s")}, ("then", "a", "b"))
+        self.assertEqual([staff.numbers() for staff in least_bands(book)], [{"p": 1, "q": 1}, {"o": 1}])
+        self.assertEqual(smallest(book), 1)
+
     def test_five_blocks_and_three_free_persons(self):
         tasks = {"a": Vote(3), "b": Task(other=["a"], many=2), "c": Vote(3, other=["a", "b"])}
         book = Book(kinds_of("p", "q"), tasks, ("then", "a", "b", "c"))

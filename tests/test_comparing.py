@@ -40,7 +40,10 @@ class TestComparing(unittest.TestCase):
         other = Book({"p": []}, {"v": Vote(2)}, ("then", "v", ("again", "v")))
         self.assert_compared(one, other, False, True, False, {"p": 1}, True)
         self.assertTrue(are_alike(one, other, together=False))
-        self.assertTrue(are_alike(one, other))
+        for first, second in ((one, other), (other, one)):
+            self.assertTrue(are_alike(first, second))
+            self.assertTrue(asks_no_more(first, second))
+            self.assertIsNone(parting(first, second))
 
     def test_one_above_the_other(self):
         one, other = check_book(), check_book()

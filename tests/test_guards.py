@@ -163,6 +163,15 @@ class TestNeedless(unittest.TestCase):
         self.assertEqual(smallest(Book({"p": []}, tasks_of("a", "b", "c"), book.plan)), 1)
         self.assertEqual(smallest(book), 2)
 
+    def test_other_and_same_of_one_name(self):
+        """Only one of both is dropped."""
+        tasks = {"a": Task("r"), "b": Task("s", other=["a"], same=["a"])}
+        book = Book({"p": ["r"], "q": ["s"]}, tasks, ("then", "a", "b"))
+        self.assertEqual(needless(book), (("b", "other", "a"),))
+        tasks = {"a": Task(), "b": Task(other=["a"], same=["a"]), "v": Vote(2)}
+        book = Book({"p": []}, tasks, ("then", "a", ("any", "b", "v")))
+        self.assertEqual(needless(book), (("b", "same", "a"),))
+
     def test_drawn_books(self):
         made = random.Random(130)
         seen = 0
@@ -215,6 +224,15 @@ class TestGuards(unittest.TestCase):
         self.assertIsNone(cheapest_guard(book, prices, 0, Staff()))
         big = {option: price * 10 ** 29 for option, price in prices.items()}
         self.assertEqual(cheapest_guard(book, big, 3)[0], 12 * 10 ** 29)
+
+    def test_the_smallest_of_several_least_staffs(self):
+        """One person who can do both tasks, or two who can do one each: with one pair of hands all can be done."""
+        book = Book({"o": ["r", "s"], "p": ["r"], "q": ["s"]}, {"a": Task("r"), "b": Task("s")}, ("then", "a", "b"))
+        self.assertEqual([guards(book, (), hands) for hands in range(4)], [True, True, False, False])
+        self.assertEqual(cheapest_guard(book, {("b", "other", "a"): 7}, 2), (7, (("b", "other", "a"),)))
+        found = bars(book, {("b", "other", "a"): 7}, 2, None, 7)
+        self.assertEqual([bar[:2] for bar in found], [("band", ("o",))])
+        self.assertIsNone(bars(book, {("b", "other", "a"): 7}, 2, None, 8))
 
     def test_choices_that_nobody_can_keep(self):
         book = Book({"p": []}, {"a": Task(), "b": Task(other=["a"])}, ("then", "a", "b"))
@@ -420,6 +438,13 @@ class TestIsBars(unittest.TestCase):
         self.assert_bars([("band", ("p", "q"), self.moves)], 2, 3)
         self.assert_none([("band", ("p",), self.moves)], 2, 1)
 
+    def test_choices_of_the_world(self):
+        book = Book({"p": []}, {"a": Task(), "b": Task(other=["b"])}, ("then", ("either", "a", DONE), ("either", DONE, "a")))
+        for moves, told in (((("choose", 1), ("choose", 0)), True), ((("choose", 0), ("do", 0, (1,)), ("choose", 0)), True), ((("pick", 0, 1), ("choose", 0)), False),
+                            ((("choose", 1), ("pick", 0, 0)), False), ((("choose", 1), ("pick", None, 0)), False), ((("choose", 1, 0), ("choose", 0)), False),
+                            ((("choose",), ("choose", 0)), False), ((("choose", 0), ("choose", 0)), False)):
+            self.assertIs(is_bars(book, {("a", "other", "b"): 1}, 2, None, 1, [("band", ("p",), moves)]), told, moves)
+
     def test_groups(self):
         prices, moves = {self.never: 1}, (("do", 0, (2,)), ("choose", 1), ("do", 0, (1, 3)))
         for group, told in (((1, 3), True), ((2, 3), True), ((3, 1), False), ((1, 1), False), ((1, 4), False), ((1, 2, 3), False), ((1,), False), ((0, 1), False)):
@@ -438,6 +463,12 @@ class TestIsBars(unittest.TestCase):
         for moves, told in (((("pick", 0, 1), ("pick", 0, 0)), True), ((("pick", 1, 0), ("pick", 0, 1)), True), ((("pick", 1, 1), ("pick", 0, 1)), False),
                             ((("pick", 0, True), ("pick", 0, 0)), False), ((("pick", False, 1), ("pick", 0, 0)), False), ((("pick", 2, 0),), False),
                             ((("pick", 0, 2),), False), ((("pick", 0),), False), ((("choose", 0),), False),
+                            ((("choose", 1), ("choose", 0)), False), ((("pick", 0, 1), ("choose", 0)), False), ((("pick", 0, 1, 0), ("pick", 0, 0)), False),
+                            ((("pick", 0, 0), ("choose", "a"), ("pick", 0, 0)), False), ((("pick", 0, 0), ("pick", 0, "a"), ("pick", 0, 0)), False),
+                            ((("pick", 0, 0), ("do", 0, "a"), ("pick", 0, 0)), False), ((("pick", 0, 0), ("do", 0), ("pick", 0, 0)), False),
+                            ((("pick", 0, 0), ("do", 0, (1,), ()), ("pick", 0, 0)), False), ((("pick", 0, 0), ("do", 0, 1), ("pick", 0, 0)), False),
+                            ((("pick", 0, 0), ("do", 0, ""), ("pick", 0, 0)), False), ((("pick", 0, 1), None, ("pick", 0, 0)), False),
+                            ((("pick", 0, 1), ("pick", 0, 0), None), False), ((("pick", 0, 1), ("pick", 0, 0), ["pick", 0, 0]), False),
                             ((("pick", 0, 0), ("do", 0, (1,)), ("pick", 0, 0)), True), ((("pick", 1, 1), ("do", 1, (1,)), ("pick", 0, 1)), True)):
             self.assertIs(is_bars(book, {("a", "other", "b"): 1}, 2, None, 1, [("band", ("p",), moves)]), told, moves)
 
@@ -451,7 +482,8 @@ class TestIsBars(unittest.TestCase):
                       ("never", choice), ("never", choice, stop, ()), ["never", choice, stop], ("lost", choice, stop), (None, choice, stop), ("band", choice, stop)):
             self.assertFalse(is_bars(self.book, prices, 0, Staff(p=1), 2, [self.lost, value]), value)
         for value in (("lost", (), {}), ("lost", choice, self.lost[2]), ("lost", (), None), ("lost", [], self.lost[2]), ("lost", None, self.lost[2]),
-                      ("lost", (), [self.lost[2]]), ("never", (), self.lost[2]), ["lost", (), self.lost[2]]):
+                      ("lost", (), [self.lost[2]]), ("never", (), self.lost[2]), ["lost", (), self.lost[2]], ("Lost", (), self.lost[2]),
+                      ("", (), self.lost[2]), (None, (), self.lost[2]), (("lost",), (), self.lost[2])):
             self.assertFalse(is_bars(self.book, prices, 0, Staff(p=1), 2, [self.lost, value]), value)
         # An attack that is none with the choice, and one that is none without it.
         with_two = attack(with_choice(self.book, (self.two,)), Staff(p=1))

@@ -182,16 +182,72 @@ class TestLanguage(unittest.TestCase):
             if isinstance(node.func, ast.Name) and node.func.id in BUILTINS:
                 self.assertLessEqual({word.arg for word in node.keywords}, allowed.get(node.func.id, set()), place)
 
+    def test_what_is_reversed(self):
+        """A class has items: reversed takes what is plainly a list, a tuple or a range (L5)."""
+        for place, node in nodes(ast.Call):
+            if isinstance(node.func, ast.Name) and node.func.id == "reversed":
+                (what,) = node.args
+                if not isinstance(what, (ast.List, ast.Tuple)):
+                    self.assertIsInstance(what, ast.Call, place)
+                    self.assertIn(what.func.id, ("list", "tuple", "sorted", "range"), place)
+
     def test_methods_of_the_interface_stand_in_their_classes(self):
         classes = {node.name: {row.name for row in node.body if isinstance(row, ast.FunctionDef)}
                    for _, node in nodes(ast.ClassDef)}
         for name, methods in (
             ("Staff", "of kinds total numbers fits_in within __getitem__ __eq__ __add__ __sub__ __or__ __and__"),
             ("Task", "role many other same takes forgets __eq__"),
+            ("Office", "book persons staff cases running start stand doers choose pick do join leave undo redo undoable redoable trial "
+                       "attempt tried depth"),
+            ("GuardedOffice", "helpful"), ("LoggedOffice", "log"), ("GuardedLoggedOffice", "helpful log"),
+            ("Vote", ""), ("HandOn", ""), ("Reopen", ""), ("Desk", "run __call__"),
             ("Book", "kinds remembered width plan set_plan names __len__ __contains__ __getitem__ __setitem__ take copied "
                      "__eq__ __add__ __or__ __ior__ text read"),
         ):
             self.assertLessEqual(set(methods.split()) | {"__init__"}, classes[name])
+
+
+    def test_properties_and_attributes(self):
+        """The name of a property is no method's and no attribute's, and no attribute has the name of a method (L5, L18)."""
+        properties, methods, attributes = set(), set(), set()
+        for _, owner in nodes(ast.ClassDef):
+            for row in owner.body:
+                if isinstance(row, ast.FunctionDef):
+                    marks = [mark.id if isinstance(mark, ast.Name) else mark.attr for mark in row.decorator_list]
+                    (properties if set(marks) & {"property", "setter"} else methods).add(row.name)
+        for _, node in nodes(ast.Attribute):
+            if isinstance(node.ctx, ast.Store):
+                attributes.add(node.attr)
+        self.assertEqual(properties & methods, set())
+        self.assertEqual((properties | methods) & attributes, set())
+        self.assertEqual((properties | methods) & (METHODS - {"join"}), set())
+        self.assertLessEqual(attributes & METHODS, {"index", "count", "find", "get", "join", "lower", "upper", "split", "strip", "copy"})
+
+    def test_generators(self):
+        """Their names are those of no other functions, and they are only gone through (L23)."""
+        functions = [node for _, node in nodes(ast.FunctionDef)]
+        makers = [node.name for node in functions if any(isinstance(row, (ast.Yield, ast.YieldFrom)) for row in ast.walk(node))]
+        self.assertEqual(sorted(makers), ["_runs_through", "runs"])
+        for name in makers:
+            self.assertEqual([node.name for node in functions].count(name), 1)
+        for place, node in nodes(ast.Name):
+            self.assertNotIn(node.id, [name for name in makers if not place.startswith("bands.py")], place)
+
+    def test_ends_of_blocks(self):
+        """The end of a block assigns attributes and asks what is None (L6)."""
+        for place, node in nodes(ast.FunctionDef):
+            if node.name == "__exit__":
+                for row in ast.walk(node):
+                    self.assertNotIsInstance(row, (ast.BinOp, ast.AugAssign, ast.For, ast.While, ast.Raise, ast.Try, ast.With, ast.Subscript), place)
+                    if isinstance(row, ast.Assign):
+                        self.assertTrue(all(isinstance(target, ast.Attribute) for target in row.targets), place)
+                    if isinstance(row, ast.Compare):
+                        self.assertIsInstance(row.ops[0], (ast.Is, ast.IsNot), place)
+                        self.assertIsNone(row.comparators[0].value, place)
+                    if isinstance(row, ast.Call):
+                        self.assertIn(row.func.attr, ("append", "clear"), place)
+                    if isinstance(row, ast.Name):
+                        self.assertNotIn(row.id, ("value", "trace"), place)
 
 
 def bound_at_top(path):

@@ -127,6 +127,11 @@ class TestLogs(unittest.TestCase):
                          [{"p": 1, "q": 1}, {"o": 1, "q": 1}, {"o": 1, "p": 1}, {"o": 2}])
         self.assertEqual([staff.numbers() for staff in least_for(book, ["a"])], [{"p": 1}, {"o": 1}])
 
+    def test_the_fewest_persons(self):
+        book = Book({"o": ["r", "s"], "p": ["r"], "q": ["s"]}, {"a": Task("r"), "b": Task("s")}, ("then", "a", "b"))
+        self.assertEqual([staff.numbers() for staff in least_for(book, ["a", "b"])], [{"p": 1, "q": 1}, {"o": 1}])
+        self.assertEqual(fewest_for(book, ["a", "b"]), 1)
+
     def test_persons_who_are_told_apart(self):
         made = random.Random(140)
         seen = []

@@ -2,14 +2,17 @@ import random
 import unittest
 
 from fewhands import errors
+from fewhands.books import Book
 from fewhands.missing import is_safe
 from fewhands.offices import GuardedLoggedOffice, GuardedOffice, LoggedOffice, Office
 from fewhands.staffs import Staff
 from fewhands.stands import moves, stands
+from fewhands.tasks import Task
 from fewhands.winning import always
 from office_model import Model, Wrong, seen
 from persons import small_book
 from reference import plan_moves
+from samples import DONE
 from values import many_kinds
 
 PERSONS = ["ann", "bob", "cy", "dan", "eve"]
@@ -176,11 +179,13 @@ class TestOfficeGames(unittest.TestCase):
     def test_guarded_offices(self):
         made = random.Random(151)
         tried = 0
+        boss = Book({"p": ["r"], "q": ["r", "s"]}, {"a": Task("r"), "b": Task("s", other=["a"]), "c": Task(same=["a"])},
+                    ("then", "a", ("beside", "b", ("any", "c", "a", DONE))))
         while tried < 120:
-            book = small_book(made)
+            book = boss if tried % 4 == 1 else small_book(made)
             # Mostly books in which something can be done wrong that three persons of each kind can do right.
             staff = Staff.of({kind: 3 for kind in book.kinds})
-            if len(stands(book)) <= 60 and (tried % 6 == 0 or always(book, staff) and not is_safe(book, staff)):
+            if book is boss or len(stands(book)) <= 60 and (tried % 8 == 0 or always(book, staff) and not is_safe(book, staff)):
                 tried += 1
                 self.game(made, book, made.choice([GuardedOffice, GuardedLoggedOffice]), True, 40)
         for name in ("start", "choose", "pick", "do", "leave"):

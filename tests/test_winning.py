@@ -519,6 +519,15 @@ class TestAnswer(unittest.TestCase):
             self.assertFalse(is_answer(book, (winners, (({"p": 0, "q": many}, lost),))))
             self.assertTrue(is_answer(book, (winners, (({"p": 0, "q": many}, lost),) + losers)))
 
+    def test_limits_of_several_kinds(self):
+        """Each of the limits is looked at, also where the attack would be right."""
+        book = Book(kinds_of("p", "q"), {"a": Task(same=["a"])}, "a")
+        lost, told = {("a", ()): (0, None)}, {"p": None, "q": None}
+        for limits, is_right in (({"p": 0, "q": 0}, True), ({"p": 7, "q": None}, True), ({"p": 8, "q": None}, False), ({"p": None, "q": 8}, False),
+                                 ({"p": 9, "q": 9}, False), ({"p": None, "q": -1}, False), ({"p": True, "q": None}, False), ({"p": None, "q": False}, False),
+                                 ({"p": "1", "q": 1}, False), ({"p": 1, "q": (1,)}, False), ({"p": 1}, False), ({"p": 1, "q": 1, "r": 1}, False)):
+            self.assertIs(is_answer(book, ((), ((told, lost), (limits, lost)))), is_right, limits)
+
     def test_random_books(self):
         made = random.Random(85)
         for _ in range(150):
@@ -566,6 +575,14 @@ class TestCheapest(unittest.TestCase):
             self.assertEqual(fewest(book), min(totals, default=None))
             if told is not None:
                 self.assertTrue(always(book, told[1]))
+
+    def test_the_fewest_persons(self):
+        """One person who can do both, or two who can do one task each."""
+        book = Book({"o": ["r", "s"], "p": ["r"], "q": ["s"]}, {"a": Task("r"), "b": Task("s")}, ("then", "a", "b"))
+        self.assertEqual(numbers_of(least_staffs(book)), [{"p": 1, "q": 1}, {"o": 1}])
+        self.assertEqual(fewest(book), 1)
+        self.assertEqual(cheapest(book, {"o": 3, "p": 1, "q": 1}), (2, Staff(p=1, q=1)))
+        self.assertEqual(cheapest(book, {"o": 3, "p": 2, "q": 2}), (3, Staff(o=1)))
 
     def test_nobody(self):
         book = Book(kinds_of("p"), {"a": Task(same=["a"])}, "a")
