@@ -445,6 +445,17 @@ class TestIsBars(unittest.TestCase):
                             ((("choose",), ("choose", 0)), False), ((("choose", 0), ("choose", 0)), False)):
             self.assertIs(is_bars(book, {("a", "other", "b"): 1}, 2, None, 1, [("band", ("p",), moves)]), told, moves)
 
+    def test_nobody_at_all(self):
+        """What is completed without any deed bars by an empty cast, as soon as one hand is asked for."""
+        prices = {("a", "other", "a"): 1}
+        for plan, moves in ((DONE, ()), (("again", "a"), (("choose", 0),)), (("any", "a", DONE), (("pick", 0, 1),))):
+            book = Book({"p": []}, tasks_of("a"), plan)
+            self.assertEqual(bars(book, prices, 1, None, 5), [("band", (), moves)])
+            self.assertTrue(is_bars(book, prices, 1, None, 5, [("band", (), moves)]))
+            self.assertFalse(is_bars(book, prices, 0, None, 0, [("band", (), moves)]))
+            self.assertEqual(cheapest_guard(book, prices, 0), (0, ()))
+            self.assertIsNone(cheapest_guard(book, prices, 1))
+
     def test_groups(self):
         prices, moves = {self.never: 1}, (("do", 0, (2,)), ("choose", 1), ("do", 0, (1, 3)))
         for group, told in (((1, 3), True), ((2, 3), True), ((3, 1), False), ((1, 1), False), ((1, 4), False), ((1, 2, 3), False), ((1,), False), ((0, 1), False)):
