@@ -95,12 +95,17 @@ def _outlasted(desk, words):
     return _told(outlasted(desk._book, desk.office.staff))
 
 
-# For each first word of a line what answers it, and how many words there are behind it, at least with "do".
-COMMANDS = {
-    "start": (_start, 1), "choose": (_choose, 2), "pick": (_pick, 2), "do": (_do, 2), "join": (_join, 2),
-    "leave": (_leave, 1), "undo": (_undo, 0), "redo": (_redo, 0), "running": (_running, 0), "doers": (_doers, 2),
-    "left": (_left, 1), "staff": (_staff, 0), "fewest": (_fewest, 0), "smallest": (_smallest, 0),
-    "spared": (_spared, 0), "outlasted": (_outlasted, 0),
+# What answers a line, by its first word.
+ACTIONS = {
+    "start": _start, "choose": _choose, "pick": _pick, "do": _do, "join": _join, "leave": _leave, "undo": _undo,
+    "redo": _redo, "running": _running, "doers": _doers, "left": _left, "staff": _staff, "fewest": _fewest,
+    "smallest": _smallest, "spared": _spared, "outlasted": _outlasted,
+}
+
+# How many words there are behind it, at least with "do".
+BEHIND = {
+    "start": 1, "choose": 2, "pick": 2, "do": 2, "join": 2, "leave": 1, "undo": 0, "redo": 0, "running": 0, "doers": 2,
+    "left": 1, "staff": 0, "fewest": 0, "smallest": 0, "spared": 0, "outlasted": 0,
 }
 
 
@@ -113,10 +118,10 @@ def _is_index(word):
 
 def _is_command(words):
     """Whether these are the words of a line that is no trial."""
-    if not words or "" in words or words[0] not in COMMANDS:
+    if not words or "" in words or words[0] not in ACTIONS:
         return False
-    _, many = COMMANDS[words[0]]
-    if len(words) - 1 < many or len(words) - 1 > many and words[0] != "do":
+    more = len(words) - 1 - BEHIND[words[0]]
+    if more < 0 or more > 0 and words[0] != "do":
         return False
     return words[0] not in ("choose", "pick") or _is_index(words[2])
 
@@ -136,7 +141,7 @@ class Desk:
         command = words[1:] if is_trial else words
         if not _is_command(command):
             raise CommandError(line)
-        action, _ = COMMANDS[command[0]]
+        action = ACTIONS[command[0]]
         if is_trial:
             return self.office.tried(lambda office: action(self, command[1:]))
         return action(self, command[1:])
