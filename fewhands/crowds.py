@@ -10,8 +10,11 @@ class Crowds:
 
     def __init__(self, many_kinds, most):
         self._most = most
-        self._strides = [(most + 1) ** at for at in reversed(range(many_kinds))]
-        self._places = (most + 1) ** many_kinds
+        strides = [1]
+        for _ in range(many_kinds):
+            strides = [strides[0] * (most + 1), *strides]
+        self._strides = strides[1:]
+        self._places = strides[0]
         self.everybody = (1 << self._places) - 1
         self._from = [[self._with_at_least(stride, least) for least in range(most + 2)] for stride in self._strides]
 

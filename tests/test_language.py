@@ -2,7 +2,10 @@
 
 import ast
 import pathlib
+import re
+import tokenize
 import unittest
+import warnings
 
 ROOT = pathlib.Path(__file__).resolve().parent.parent
 PACKAGE = ROOT / "fewhands"
@@ -105,6 +108,41 @@ class TestLanguage(unittest.TestCase):
         for place, node in nodes(ast.Constant):
             self.assertNotIsInstance(node.value, (float, complex), place)
             self.assertNotIn("%", node.value if isinstance(node.value, str) else "", place)
+
+    def test_powers(self):
+        """An exponent is a literal from 0 to 64 (L27)."""
+        for place, node in nodes(ast.BinOp, ast.AugAssign):
+            if isinstance(node.op, ast.Pow):
+                exponent = node.right if isinstance(node, ast.BinOp) else node.value
+                self.assertIsInstance(exponent, ast.Constant, place)
+                self.assertIn(exponent.value, range(65), place)
+
+    def test_numbers_and_strings_as_they_are_written(self):
+        """Few digits, few escapes, no endings that look like private names, and nothing that Python warns of (L27)."""
+        for path in files():
+            with warnings.catch_warnings():
+                warnings.simplefilter("error")
+                compile(path.read_text(), str(path), "exec")
+            with path.open("rb") as file:
+                for token in tokenize.tokenize(file.readline):
+                    place = f"{path.name}:{token.start[0]}"
+                    if token.type == tokenize.NUMBER:
+                        self.assertLessEqual(len(token.string), 900, place)
+                    if token.type == tokenize.STRING:
+                        self.assertEqual(re.findall(r"\\[^nt'\"\\]", token.string.replace(r"\\", "")), [], place)
+        for place, node in nodes(ast.Constant):
+            if isinstance(node.value, str):
+                self.assertFalse(node.value.endswith(("._", ".__")), place)
+                self.assertFalse(node.value.startswith("__") and node.value.endswith("__"), place)
+
+    def test_special_methods_return_what_they_should(self):
+        """No __init__ returns anything, and the __len__ of a class returns a len (L28)."""
+        for place, node in nodes(ast.FunctionDef):
+            found = [row for row in ast.walk(node) if isinstance(row, ast.Return)]
+            if node.name == "__init__":
+                self.assertEqual(found, [], place)
+            if node.name == "__len__":
+                self.assertEqual([row.value.func.id for row in found], ["len"], place)
 
     def test_special_methods(self):
         for place, node in nodes(ast.FunctionDef):
